@@ -1,0 +1,1 @@
+"""Twowaysigns: solving wishes about terms, some of whose symbols do not care which side is which."""
