@@ -1,0 +1,100 @@
+"""Points 2, 3 and 4: what holds for every function: sequences, names of parameters, the same answers again."""
+
+import copy
+
+from tests.helpers import SYMBOLS, Case
+from twowaysigns.fillings import composed, fill_row, fill_term
+from twowaysigns.matching import is_case, matches_of
+from twowaysigns.shelves import Shelf
+from twowaysigns.sides import are_alike, even_places, least_writing, turned, two_way_places
+from twowaysigns.signatures import Signature
+from twowaysigns.tellings import least_telling
+from twowaysigns.terms import (check_term, part_at, places_of, replaced_at, row_order, row_variables, size_of,
+                               term_order, variables_of)
+from twowaysigns.trees import answers_of, tree_of
+from twowaysigns.turnings import count_turnings, own_turnings, turnings_of
+from twowaysigns.wishes import Wishes
+
+S = Signature(SYMBOLS)
+TERM = ("f", ("f", "Y", "X"), ("f", "X", ("g", ("a",))))
+ROW = [TERM, "X"]
+FILLING = [("Y", ("a",)), ("X", "Y"), ("N", "X")]
+WISHES = Wishes(S, ["X", "Y"], [(TERM, ("f", ("f", "Z", "Z"), ("f", ("b",), ("g", "W"))))])
+CALLS = [
+    (check_term, {"signature": S, "value": TERM}),
+    (size_of, {"term": TERM}),
+    (variables_of, {"term": TERM}),
+    (row_variables, {"row": ROW}),
+    (places_of, {"term": TERM}),
+    (part_at, {"term": TERM, "place": (1, 1)}),
+    (replaced_at, {"term": TERM, "place": (1, 1), "new": "Z"}),
+    (term_order, {"signature": S, "term": TERM}),
+    (row_order, {"signature": S, "row": ROW}),
+    (turned, {"signature": S, "term": TERM, "places": [(1,), ()]}),
+    (least_writing, {"signature": S, "term": TERM}),
+    (are_alike, {"signature": S, "one": TERM, "two": ("f", TERM[2], TERM[1])}),
+    (two_way_places, {"signature": S, "term": TERM}),
+    (even_places, {"signature": S, "term": TERM}),
+    (count_turnings, {"signature": S, "term": TERM}),
+    (turnings_of, {"signature": S, "term": TERM}),
+    (own_turnings, {"signature": S, "term": TERM}),
+    (fill_term, {"term": TERM, "filling": FILLING}),
+    (fill_row, {"row": ROW, "filling": FILLING}),
+    (composed, {"one": FILLING, "two": FILLING[::-1]}),
+    (matches_of, {"signature": S, "pattern": ["X", "Y"], "row": ROW}),
+    (is_case, {"signature": S, "row": ROW, "pattern": ["X", "Y"]}),
+    (least_telling, {"signature": S, "row": ROW}),
+    (tree_of, {"wishes": WISHES}),
+    (answers_of, {"wishes": WISHES, "lines": list(tree_of(WISHES))}),
+]
+
+
+def called(function, *args, **keywords):
+    """Return what the call returns, or the tuple of what it yields."""
+    result = function(*args, **keywords)
+    return tuple(result) if function is turnings_of else result
+
+
+class GeneralTest(Case):
+
+    def test_by_place_and_by_name_with_lists_and_tuples(self):
+        for function, keywords in CALLS:
+            expected = called(function, **keywords)
+            tuples = {name: tuple(value) if isinstance(value, list) else value for name, value in keywords.items()}
+            for passed in (keywords, tuples):
+                before = copy.deepcopy({name: value for name, value in passed.items()
+                                        if isinstance(value, (list, tuple))})
+                self.assertEqual(expected, called(function, *passed.values()), function)
+                self.assertEqual(expected, called(function, **passed), function)
+                for name, value in before.items():
+                    self.assertEqual(value, passed[name], function)
+
+    def test_what_is_returned(self):
+        for function, keywords in CALLS:
+            result = called(function, **keywords)
+            if function is check_term:
+                self.assertIsNone(result)
+            elif function not in (term_order, row_order):
+                self.only_tuples(result)
+            if function in (are_alike, is_case):
+                self.assertIs(True, result)
+
+    def test_objects_keep_their_fields(self):
+        asked, pairs = ("X", "Y"), ((TERM, "Z"),)
+        wishes = Wishes(S, asked, pairs)
+        for _ in range(2):
+            answers_of(wishes, tree_of(wishes))
+            self.same(("Z",), wishes.helpers)
+            self.same(asked, wishes.asked)
+            self.same(pairs, wishes.pairs)
+            self.assertIs(S, wishes.signature)
+        self.same(tuple(SYMBOLS), S.symbols)
+
+    def test_two_shelves_and_two_signatures(self):
+        one, two = Shelf(S), Shelf(S)
+        one.put_term(TERM)
+        self.assertEqual(0, len(two))
+        self.assertEqual(0, two.put("b"))
+        other = Signature([("f", 2, False), ("a", 0, False)])
+        self.assertEqual(((), (0,), (1,)), two_way_places(S, TERM))
+        self.assertEqual((), two_way_places(other, ("f", "X", ("f", "Y", ("a",)))))

@@ -1,0 +1,83 @@
+"""The interface: every name stands where the document lists it, and the code keeps its form."""
+
+import ast
+import importlib
+import inspect
+import pathlib
+import unittest
+
+FUNCTIONS = {
+    "terms": {"check_term": "signature value", "size_of": "term", "variables_of": "term", "row_variables": "row",
+              "places_of": "term", "part_at": "term place", "replaced_at": "term place new",
+              "term_order": "signature term", "row_order": "signature row"},
+    "sides": {"turned": "signature term places", "least_writing": "signature term", "are_alike": "signature one two",
+              "two_way_places": "signature term", "even_places": "signature term"},
+    "turnings": {"count_turnings": "signature term", "turnings_of": "signature term",
+                 "own_turnings": "signature term"},
+    "fillings": {"fill_term": "term filling", "fill_row": "row filling", "composed": "one two"},
+    "matching": {"matches_of": "signature pattern row", "is_case": "signature row pattern"},
+    "tellings": {"least_telling": "signature row"},
+    "trees": {"answers_of": "wishes lines", "tree_of": "wishes"},
+}
+CLASSES = {
+    "signatures": {"Signature": {"__init__": "symbols", "arity": "name", "rank": "name", "is_two_way": "name",
+                                 "__eq__": "other"}},
+    "shelves": {"Shelf": {"__init__": "signature", "put": "name numbers", "put_term": "term", "full_size": "number",
+                          "uneven_count": "number", "even_count": "number", "parts": "number", "term": "number",
+                          "filled": "number filling", "__len__": ""}},
+    "wishes": {"Wishes": {"__init__": "signature asked pairs"}},
+}
+PACKAGE = pathlib.Path(importlib.import_module("twowaysigns").__file__).parent
+LIBRARY = ("heapq", "math", "itertools", "collections")
+
+
+class InterfaceTest(unittest.TestCase):
+
+    def test_functions_are_defined_in_their_files(self):
+        for module, functions in FUNCTIONS.items():
+            for name, parameters in functions.items():
+                function = getattr(importlib.import_module(f"twowaysigns.{module}"), name)
+                self.assertEqual(f"twowaysigns.{module}", function.__module__)
+                self.assertEqual(parameters.split(), list(inspect.signature(function).parameters), name)
+
+    def test_methods_are_defined_in_their_classes(self):
+        for module, classes in CLASSES.items():
+            for name, methods in classes.items():
+                found = getattr(importlib.import_module(f"twowaysigns.{module}"), name)
+                self.assertEqual(f"twowaysigns.{module}", found.__module__)
+                for method, parameters in methods.items():
+                    self.assertIn(method, vars(found))
+                    self.assertEqual(parameters.split(), list(inspect.signature(vars(found)[method]).parameters)[1:])
+
+    def test_helpers_is_a_property(self):
+        wishes = importlib.import_module("twowaysigns.wishes").Wishes
+        self.assertIsInstance(vars(wishes)["helpers"], property)
+
+
+class FormTest(unittest.TestCase):
+
+    def files(self):
+        return sorted(path for path in PACKAGE.rglob("*") if path.is_file() and "__pycache__" not in path.parts)
+
+    def test_files(self):
+        for path in self.files():
+            text = path.read_text(encoding="utf-8")
+            self.assertEqual(".py", path.suffix)
+            self.assertLessEqual(len(text.splitlines()), 399, path)
+            self.assertEqual([], [sign for sign in text if sign != "\n" and not " " <= sign <= "~"], path)
+            self.assertEqual([], [line for line in text.splitlines() if len(line) > 120], path)
+
+    def test_functions(self):
+        for path in self.files():
+            for node in ast.walk(ast.parse(path.read_text(encoding="utf-8"))):
+                if isinstance(node, ast.FunctionDef):
+                    self.assertLessEqual(node.end_lineno - node.lineno + 1, 40, node.name)
+                self.assertNotIsInstance(node, (ast.Global, ast.AsyncFunctionDef))
+
+    def test_imports(self):
+        for path in self.files():
+            for node in ast.walk(ast.parse(path.read_text(encoding="utf-8"))):
+                if isinstance(node, ast.ImportFrom) and node.module not in LIBRARY:
+                    self.assertEqual("twowaysigns", node.module.split(".")[0], path)
+                    for name in node.names:
+                        self.assertIn(f" {name.name}", (PACKAGE / f"{node.module.split('.')[1]}.py").read_text())
