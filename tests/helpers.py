@@ -268,3 +268,67 @@ def least_telling_by_search(row, symbols=SYMBOLS):
         return by_skeleton or (numbers(one) > numbers(two)) - (numbers(one) < numbers(two))
 
     return min(tellings, key=functools.cmp_to_key(compare))
+
+
+def lines_that_fit(pending):
+    """Return all lines that may be applied, by the table of point 21."""
+    if not pending:
+        return [("answer",)]
+    lines = []
+    for k, (one, two) in enumerate(pending):
+        if alike_by_words(one, two):
+            lines.append(("drop", k))
+        if not isinstance(one, str) and not isinstance(two, str):
+            kind = "clash" if one[0] != two[0] else "turn" if one[0] in two_way_names() else "split"
+            lines.append((kind, k))
+        for side, (variable, other) in enumerate([(one, two), (two, one)]):
+            if isinstance(variable, str) and variable not in occurrences(other):
+                lines.append(("bind", k, side))
+            elif isinstance(variable, str) and not isinstance(other, str):
+                lines.append(("loop", k))
+    return lines
+
+
+def made_states(state, line):
+    """Return the states that a fitting line makes, by the table of point 21."""
+    pending, row = state
+    if line[0] in ("answer", "clash", "loop"):
+        return []
+    one, two = pending[line[1]]
+    before, behind = pending[:line[1]], pending[line[1] + 1:]
+    if line[0] == "drop":
+        return [(before + behind, row)]
+    if line[0] == "bind":
+        table = {(one, two)[line[2]]: (one, two)[1 - line[2]]}
+        return [([(put_in(x, table), put_in(y, table)) for x, y in before + behind], [put_in(x, table) for x in row])]
+    orders = [two[1:]] + ([two[:0:-1]] if line[0] == "turn" else [])
+    return [(before + list(zip(one[1:], order)) + behind, row) for order in orders]
+
+
+def answers_by_words(asked, pairs):
+    """Return the answers of a tree for the wishes, made by the table of point 21."""
+    states, answers = [(list(pairs), list(asked))], []
+    while states:
+        state = states.pop()
+        lines = lines_that_fit(state[0])
+        line = next((line for line in lines if line[0] in ("clash", "loop")), lines[0])
+        if line == ("answer",):
+            answers.append(tuple(state[1]))
+        states += made_states(state, line)
+    return answers
+
+
+def meets_by_words(asked, pairs, row):
+    """Tell whether the row meets the wishes, by putting it in as wishes of its own.
+
+    Its variables become constants that occur nowhere else, since they are not replaced.
+    """
+    frozen = [put_in(term, {name: (f"k{name}",) for name in occurrences(term)}) for term in row]
+    return len(row) == len(asked) and len(answers_by_words(asked, [*pairs, *zip(asked, frozen)])) > 0
+
+
+def least_form_by_search(rows, symbols=SYMBOLS):
+    """Return the rows of the book of all cases of the rows, as DOC.md describes its least form."""
+    told = sorted_rows({least_telling_by_search(row, symbols) for row in rows}, symbols)
+    return tuple(row for row in told
+                 if not any(is_case_by_search(row, other, symbols) for other in told if other != row))

@@ -3,11 +3,15 @@
 import copy
 
 from tests.helpers import SYMBOLS, Case
+from twowaysigns.books import Book
 from twowaysigns.fillings import composed, fill_row, fill_term
+from twowaysigns.layers import Layers, parting
 from twowaysigns.matching import is_case, matches_of
+from twowaysigns.sayings import Saying
 from twowaysigns.shelves import Shelf
 from twowaysigns.sides import are_alike, even_places, least_writing, turned, two_way_places
 from twowaysigns.signatures import Signature
+from twowaysigns.solving import clashes, meets, widest
 from twowaysigns.tellings import least_telling
 from twowaysigns.terms import (check_term, part_at, places_of, replaced_at, row_order, row_variables, size_of,
                                term_order, variables_of)
@@ -20,6 +24,9 @@ TERM = ("f", ("f", "Y", "X"), ("f", "X", ("g", ("a",))))
 ROW = [TERM, "X"]
 FILLING = [("Y", ("a",)), ("X", "Y"), ("N", "X")]
 WISHES = Wishes(S, ["X", "Y"], [(TERM, ("f", ("f", "Z", "Z"), ("f", ("b",), ("g", "W"))))])
+BOOK = Book(S, 2, [ROW])
+SAYING = ~Saying(WISHES)
+LAYERS = Layers.of(SAYING)
 CALLS = [
     (check_term, {"signature": S, "value": TERM}),
     (size_of, {"term": TERM}),
@@ -46,6 +53,18 @@ CALLS = [
     (least_telling, {"signature": S, "row": ROW}),
     (tree_of, {"wishes": WISHES}),
     (answers_of, {"wishes": WISHES, "lines": list(tree_of(WISHES))}),
+    (Book, {"signature": S, "width": 2, "rows": [ROW, ["X", "Y"], ("Y", ("a",))]}),
+    (Book.nothing, {"signature": S, "width": 2}),
+    (Book.everything, {"signature": S, "width": 2}),
+    (BOOK.within, {"other": BOOK}),
+    (widest, {"wishes": WISHES}),
+    (meets, {"wishes": WISHES, "row": ROW}),
+    (clashes, {"wishes": Wishes(S, ["X"], [("X", ("a",)), ("X", ("b",))])}),
+    (SAYING.is_met, {"row": ROW}),
+    (Layers, {"signature": S, "width": 2, "books": [BOOK, BOOK | Book(S, 2, [("X", "X")])]}),
+    (Layers.of, {"saying": SAYING}),
+    (LAYERS.within, {"other": LAYERS}),
+    (parting, {"one": LAYERS, "two": ~LAYERS}),
 ]
 
 
@@ -74,9 +93,13 @@ class GeneralTest(Case):
             result = called(function, **keywords)
             if function is check_term:
                 self.assertIsNone(result)
+            elif isinstance(result, Layers):
+                self.only_tuples(tuple(book.rows for book in result.books))
+            elif isinstance(result, Book):
+                self.only_tuples(result.rows)
             elif function not in (term_order, row_order):
                 self.only_tuples(result)
-            if function in (are_alike, is_case):
+            if function in (are_alike, is_case, BOOK.within, SAYING.is_met, LAYERS.within):
                 self.assertIs(True, result)
 
     def test_objects_keep_their_fields(self):

@@ -18,6 +18,9 @@ FUNCTIONS = {
     "matching": {"matches_of": "signature pattern row", "is_case": "signature row pattern"},
     "tellings": {"least_telling": "signature row"},
     "trees": {"answers_of": "wishes lines", "tree_of": "wishes"},
+    "solving": {"widest": "wishes", "meets": "wishes row", "clashes": "wishes"},
+    "tellback": {"told_back": "book two_way pair"},
+    "layers": {"parting": "one two"},
 }
 CLASSES = {
     "signatures": {"Signature": {"__init__": "symbols", "arity": "name", "rank": "name", "is_two_way": "name",
@@ -26,7 +29,18 @@ CLASSES = {
                           "uneven_count": "number", "even_count": "number", "parts": "number", "term": "number",
                           "filled": "number filling", "__len__": ""}},
     "wishes": {"Wishes": {"__init__": "signature asked pairs"}},
+    "books": {"Book": {"__init__": "signature width rows", "within": "other", "nothing": "signature width",
+                       "everything": "signature width", "__or__": "other", "__and__": "other", "__contains__": "row",
+                       "__eq__": "other", "__len__": "", "__iter__": ""}},
+    "sayings": {"Saying": {"__init__": "wishes", "is_met": "row", "__and__": "other", "__or__": "other",
+                           "__invert__": ""}},
+    "layers": {"Layers": {"__init__": "signature width books", "within": "other", "of": "saying", "__and__": "other",
+                          "__or__": "other", "__sub__": "other", "__xor__": "other", "__invert__": "",
+                          "__contains__": "row", "__eq__": "other"}},
 }
+PROPERTIES = {("wishes", "Wishes"): ["helpers"], ("books", "Book"): ["is_empty"], ("sayings", "Saying"): ["lists"],
+              ("layers", "Layers"): ["is_empty"]}
+CLASS_METHODS = {("books", "Book"): ["nothing", "everything"], ("layers", "Layers"): ["of"]}
 PACKAGE = pathlib.Path(importlib.import_module("twowaysigns").__file__).parent
 LIBRARY = ("heapq", "math", "itertools", "collections")
 
@@ -47,11 +61,15 @@ class InterfaceTest(unittest.TestCase):
                 self.assertEqual(f"twowaysigns.{module}", found.__module__)
                 for method, parameters in methods.items():
                     self.assertIn(method, vars(found))
-                    self.assertEqual(parameters.split(), list(inspect.signature(vars(found)[method]).parameters)[1:])
+                    function = getattr(vars(found)[method], "__func__", vars(found)[method])
+                    self.assertEqual(parameters.split(), list(inspect.signature(function).parameters)[1:])
 
-    def test_helpers_is_a_property(self):
-        wishes = importlib.import_module("twowaysigns.wishes").Wishes
-        self.assertIsInstance(vars(wishes)["helpers"], property)
+    def test_properties_and_class_methods(self):
+        for kind, table in [(property, PROPERTIES), (classmethod, CLASS_METHODS)]:
+            for (module, name), members in table.items():
+                found = getattr(importlib.import_module(f"twowaysigns.{module}"), name)
+                for member in members:
+                    self.assertIsInstance(vars(found)[member], kind)
 
 
 class FormTest(unittest.TestCase):
@@ -80,4 +98,10 @@ class FormTest(unittest.TestCase):
                 if isinstance(node, ast.ImportFrom) and node.module not in LIBRARY:
                     self.assertEqual("twowaysigns", node.module.split(".")[0], path)
                     for name in node.names:
-                        self.assertIn(f" {name.name}", (PACKAGE / f"{node.module.split('.')[1]}.py").read_text())
+                        self.assertIn(name.name, self.names_bound_in(PACKAGE / f"{node.module.split('.')[1]}.py"))
+
+    def names_bound_in(self, path):
+        """Return the names of the functions, classes and values that the file defines."""
+        nodes = ast.parse(path.read_text(encoding="utf-8")).body
+        names = [node.name for node in nodes if isinstance(node, (ast.FunctionDef, ast.ClassDef))]
+        return names + [node.targets[0].id for node in nodes if isinstance(node, ast.Assign)]

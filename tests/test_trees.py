@@ -3,8 +3,8 @@
 import itertools
 import random
 
-from tests.helpers import (SYMBOLS, Case, alike_by_words, all_terms, balanced, comb, is_case_by_search, meeting_places,
-                           occurrences, put_in, random_term, size)
+from tests.helpers import (SYMBOLS, Case, alike_by_words, all_terms, balanced, comb, is_case_by_search,
+                           lines_that_fit, made_states, meeting_places, put_in, random_term, size)
 from twowaysigns.errors import BadLine
 from twowaysigns.matching import is_case
 from twowaysigns.signatures import Signature
@@ -16,41 +16,6 @@ S = Signature(SYMBOLS)
 A = ("a",)
 B = ("b",)
 SMALL = all_terms(3, ["R", A, B], [("f", 2, True), ("g", 1, False)])
-
-
-def lines_that_fit(pending):
-    """Return all lines that may be applied, by the table of point 21."""
-    if not pending:
-        return [("answer",)]
-    lines = []
-    for k, (one, two) in enumerate(pending):
-        if alike_by_words(one, two):
-            lines.append(("drop", k))
-        if not isinstance(one, str) and not isinstance(two, str):
-            kind = "clash" if one[0] != two[0] else "turn" if one[0] == "f" else "split"
-            lines.append((kind, k))
-        for side, (variable, other) in enumerate([(one, two), (two, one)]):
-            if isinstance(variable, str) and variable not in occurrences(other):
-                lines.append(("bind", k, side))
-            elif isinstance(variable, str) and not isinstance(other, str):
-                lines.append(("loop", k))
-    return lines
-
-
-def made_states(state, line):
-    """Return the states that a fitting line makes, by the table of point 21."""
-    pending, row = state
-    if line[0] in ("answer", "clash", "loop"):
-        return []
-    one, two = pending[line[1]]
-    before, behind = pending[:line[1]], pending[line[1] + 1:]
-    if line[0] == "drop":
-        return [(before + behind, row)]
-    if line[0] == "bind":
-        table = {(one, two)[line[2]]: (one, two)[1 - line[2]]}
-        return [([(put_in(x, table), put_in(y, table)) for x, y in before + behind], [put_in(x, table) for x in row])]
-    orders = [two[1:]] + ([two[:0:-1]] if line[0] == "turn" else [])
-    return [(before + list(zip(one[1:], order)) + behind, row) for order in orders]
 
 
 def random_tree(rng, wishes):

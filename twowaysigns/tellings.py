@@ -31,9 +31,10 @@ def least_telling(signature, row):
 
 
 def _with_singles(row):
-    occurrences = row_occurrences(row)
-    singles = [variable for variable in occurrences if occurrences.count(variable) == 1]
-    return fill_row(row, [(variable, SINGLE) for variable in singles])
+    counts = {}
+    for variable in row_occurrences(row):
+        counts[variable] = counts.get(variable, 0) + 1
+    return fill_row(row, [(variable, SINGLE) for variable in counts if counts[variable] == 1])
 
 
 def _part(signature, term):

@@ -16,7 +16,7 @@ def check_term(signature, value):
 
 def size_of(term):
     """Return the number of occurrences of variables and symbols in the term."""
-    return len(_parts_in_order(term))
+    return len(parts_in_order(term))
 
 
 def variables_of(term):
@@ -34,12 +34,24 @@ def row_variables(row):
 
 def row_occurrences(row):
     """Return the variable of every occurrence of a variable in the row, from left to right."""
-    return tuple([part for term in row for part in _parts_in_order(term) if isinstance(part, str)])
+    return tuple([part for term in row for part in parts_in_order(term) if isinstance(part, str)])
 
 
 def places_of(term):
     """Return all places of the term, in order."""
     return tuple([place for place, _ in parts_with_places(term)])
+
+
+def parts_in_order(term):
+    """Return the part at every place of the term, in the order of places."""
+    found = []
+    waiting = [term]
+    while waiting:
+        part = waiting.pop()
+        found.append(part)
+        if not isinstance(part, str):
+            waiting.extend(list(part[:0:-1]))
+    return found
 
 
 def parts_with_places(term):
@@ -73,7 +85,7 @@ def term_order(signature, term):
     No such string is the beginning of another one, so it also tells terms apart as a key,
     and those of several terms in a row may simply be joined.
     """
-    return "".join([sign_order(signature, part) for part in _parts_in_order(term)])
+    return "".join([sign_order(signature, part) for part in parts_in_order(term)])
 
 
 def row_order(signature, row):
@@ -101,17 +113,6 @@ def _arguments_backwards(place, part):
     if isinstance(part, str):
         return []
     return [(place + (index,), part[index + 1]) for index in reversed(range(len(part) - 1))]
-
-
-def _parts_in_order(term):
-    found = []
-    waiting = [term]
-    while waiting:
-        part = waiting.pop()
-        found.append(part)
-        if not isinstance(part, str):
-            waiting.extend(list(part[:0:-1]))
-    return found
 
 
 def _parts_on_the_way(term, place):
