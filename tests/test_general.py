@@ -3,10 +3,16 @@
 import copy
 
 from tests.helpers import SYMBOLS, Case
+from twowaysigns.above import nearest_above
 from twowaysigns.books import Book
+from twowaysigns.closedrows import closed_row
+from twowaysigns.closedterms import closed_terms, count_closed
+from twowaysigns.covers import Coverage, coverage
 from twowaysigns.fillings import composed, fill_row, fill_term
+from twowaysigns.kinds import are_closed_kinds, count_kinds, kind_of, kinds_of, pattern_parts
 from twowaysigns.layers import Layers, parting
 from twowaysigns.matching import is_case, matches_of
+from twowaysigns.orders import Order
 from twowaysigns.sayings import Saying
 from twowaysigns.shelves import Shelf
 from twowaysigns.sides import are_alike, even_places, least_writing, turned, two_way_places
@@ -27,6 +33,8 @@ WISHES = Wishes(S, ["X", "Y"], [(TERM, ("f", ("f", "Z", "Z"), ("f", ("b",), ("g"
 BOOK = Book(S, 2, [ROW])
 SAYING = ~Saying(WISHES)
 LAYERS = Layers.of(SAYING)
+PATTERNS = ["X", ("f", ("a",), ("g", "Y")), ("g", "X")]
+ORDER = Order(S, [1, 1, 1, 1, 1])
 CALLS = [
     (check_term, {"signature": S, "value": TERM}),
     (size_of, {"term": TERM}),
@@ -65,13 +73,30 @@ CALLS = [
     (Layers.of, {"saying": SAYING}),
     (LAYERS.within, {"other": LAYERS}),
     (parting, {"one": LAYERS, "two": ~LAYERS}),
+    (nearest_above, {"signature": S, "rows": [ROW, ["X", ("a",)], (("f", "X", TERM), "X")]}),
+    (closed_terms, {"signature": S, "size": 4}),
+    (count_closed, {"signature": S, "size": 50}),
+    (closed_row, {"saying": Saying(Wishes(S, ["X"], [("X", ("g", ("a",)))]))}),
+    (pattern_parts, {"signature": S, "patterns": PATTERNS}),
+    (kind_of, {"signature": S, "patterns": PATTERNS, "term": ("f", ("g", ("b",)), ("a",))}),
+    (kinds_of, {"signature": S, "patterns": PATTERNS}),
+    (are_closed_kinds, {"signature": S, "patterns": PATTERNS, "kinds": [kind for kind, _ in kinds_of(S, PATTERNS)]}),
+    (count_kinds, {"signature": S, "patterns": PATTERNS, "size": 9}),
+    (coverage, {"signature": S, "patterns": PATTERNS}),
+    (Order, {"signature": S, "weights": [1, 2, 3, 4, 5]}),
+    (ORDER.weight, {"term": TERM}),
+    (ORDER.compare, {"s": TERM, "t": "X"}),
 ]
 
 
 def called(function, *args, **keywords):
-    """Return what the call returns, or the tuple of what it yields."""
+    """Return what the call returns, or the tuple of what it yields, in a form that can be compared."""
     result = function(*args, **keywords)
-    return tuple(result) if function is turnings_of else result
+    if isinstance(result, Coverage):
+        return result.missed, result.doubled, result.reached
+    if isinstance(result, Order):
+        return result.signature.symbols, result.weights
+    return tuple(result) if function in (turnings_of, closed_terms) else result
 
 
 class GeneralTest(Case):
@@ -97,9 +122,9 @@ class GeneralTest(Case):
                 self.only_tuples(tuple(book.rows for book in result.books))
             elif isinstance(result, Book):
                 self.only_tuples(result.rows)
-            elif function not in (term_order, row_order):
+            elif function not in (term_order, row_order, coverage):
                 self.only_tuples(result)
-            if function in (are_alike, is_case, BOOK.within, SAYING.is_met, LAYERS.within):
+            if function in (are_alike, is_case, BOOK.within, SAYING.is_met, LAYERS.within, are_closed_kinds):
                 self.assertIs(True, result)
 
     def test_objects_keep_their_fields(self):

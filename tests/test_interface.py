@@ -21,6 +21,13 @@ FUNCTIONS = {
     "solving": {"widest": "wishes", "meets": "wishes row", "clashes": "wishes"},
     "tellback": {"told_back": "book two_way pair"},
     "layers": {"parting": "one two"},
+    "above": {"nearest_above": "signature rows"},
+    "closedterms": {"closed_terms": "signature size", "count_closed": "signature size"},
+    "closedrows": {"closed_row": "saying"},
+    "kinds": {"pattern_parts": "signature patterns", "kind_of": "signature patterns term",
+              "kinds_of": "signature patterns", "are_closed_kinds": "signature patterns kinds",
+              "count_kinds": "signature patterns size"},
+    "covers": {"coverage": "signature patterns"},
 }
 CLASSES = {
     "signatures": {"Signature": {"__init__": "symbols", "arity": "name", "rank": "name", "is_two_way": "name",
@@ -37,6 +44,8 @@ CLASSES = {
     "layers": {"Layers": {"__init__": "signature width books", "within": "other", "of": "saying", "__and__": "other",
                           "__or__": "other", "__sub__": "other", "__xor__": "other", "__invert__": "",
                           "__contains__": "row", "__eq__": "other"}},
+    "covers": {"Coverage": {}},
+    "orders": {"Order": {"__init__": "signature weights", "weight": "term", "compare": "s t"}},
 }
 PROPERTIES = {("wishes", "Wishes"): ["helpers"], ("books", "Book"): ["is_empty"], ("sayings", "Saying"): ["lists"],
               ("layers", "Layers"): ["is_empty"]}

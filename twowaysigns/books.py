@@ -83,6 +83,14 @@ def check_fit(one, two):
         raise BooksDiffer()
 
 
+def wider_first(rows):
+    """Return the rows as a list in which each one stands before those of its cases that are not as wide."""
+    # Such a case is larger, or it is as large and has fewer variables.
+    counted = sorted([(sum([size_of(term) for term in row]), -len(row_variables(row)), index)
+                      for index, row in enumerate(rows)])
+    return [rows[index] for _, _, index in counted]
+
+
 def _is_case_of_one(signature, row, patterns):
     for pattern in patterns:
         if is_case(signature, row, pattern):
@@ -92,14 +100,10 @@ def _is_case_of_one(signature, row, patterns):
 
 def _widest_of(signature, rows):
     """Return those rows that are no cases of others; of rows that are as wide as each other, one."""
-    # A case of a row is larger, or as large with fewer variables, or it is as wide. So a row comes
-    # before all of its cases, and is compared only with rows that stay.
-    counted = sorted([(sum([size_of(term) for term in row]), -len(row_variables(row)), index)
-                      for index, row in enumerate(rows)])
     widest = []
-    for _, _, index in counted:
-        if not _is_case_of_one(signature, rows[index], widest):
-            widest.append(rows[index])
+    for row in wider_first(rows):
+        if not _is_case_of_one(signature, row, widest):
+            widest.append(row)
     return widest
 
 
