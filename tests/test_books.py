@@ -4,7 +4,7 @@ import itertools
 import random
 
 from tests.helpers import (SYMBOLS, Case, all_terms, balanced, comb, exchanged, is_case_by_search,
-                           least_form_by_search, meeting_places, occurrences, put_in, random_term)
+                           least_form_by_search, meeting_places, occurrences, put_in, random_term, tower)
 from twowaysigns.books import Book
 from twowaysigns.errors import BadWidth, BooksDiffer
 from twowaysigns.signatures import Signature
@@ -189,6 +189,11 @@ class OperatorsTest(Case):
         doubled = [("p", f"Y{k}", f"Y{k}") for k in range(14)]
         two = Book(S, 3, [(comb("p", doubled), comb("p", [f"Y{k}" for k in range(13)] + ["Z"]), ("g", "Z"))])
         self.same((), (one & two).rows)
+
+    def test_and_that_becomes_deep(self):
+        one = Book(S, 4, [(tower(59, "X"), "X", tower(59, "U"), "U")])
+        two = Book(S, 4, [("Z", tower(59, "W"), "W", tower(59, "T"))])
+        self.same(((tower(236, "V1"), tower(177, "V1"), tower(118, "V1"), tower(59, "V1")),), (one & two).rows)
 
     def test_laws(self):
         rng = random.Random(7)

@@ -79,6 +79,15 @@ class ClosedRowTest(Case):
             saying = saying & ~said(["X", "Y"], ("Y", term), signature=MEETINGS)
         self.check(saying, 7 + 15)
 
+    def test_the_least_row_in_a_later_book(self):
+        asked = ["X", "Y"]
+        one, two = [said(asked, (name, A), signature=LINE) for name in asked]
+        saying = ~two | one & two
+        self.assertEqual(3, len(Layers.of(saying).books))
+        self.same((A, A), self.check(saying, 2))
+        self.check(saying & ~(one & two), 3)
+        self.same((A, A), self.check(said(asked, signature=LINE), 2))
+
     def test_unlike_variables(self):
         asked = ["X", "Y", "Z"]
         saying = said(asked, signature=LINE)

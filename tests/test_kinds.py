@@ -10,6 +10,7 @@ from twowaysigns.closedterms import closed_terms, count_closed
 from twowaysigns.covers import coverage
 from twowaysigns.errors import BadKind, NotAPattern
 from twowaysigns.kinds import are_closed_kinds, count_kinds, kind_of, kinds_of, pattern_parts
+from twowaysigns.matching import is_case
 from twowaysigns.signatures import Signature
 
 S = Signature(SYMBOLS)
@@ -160,19 +161,27 @@ class KindsTest(Case):
         self.same((((0,), A), ((), B), ((2,), ("g", A)), ((1,), ("f", A, ("g", A)))),
                   kinds_of(S, [("f", ("g", "X"), A)]))
 
+    def test_examples_are_least_writings(self):
+        self.same((((0,), A), ((), B), ((1, 2), ("f", A, A)), ((1,), ("f", A, B))),
+                  kinds_of(S, [("f", A, A), ("f", "X", A)]))
+        self.same((((0,), A), ((), ("g", A)), ((1, 2), ("f", A, A)), ((1,), ("f", A, ("g", A)))),
+                  kinds_of(FEW, [("f", A, "X"), ("f", A, A)]))
+
     def test_examples_much_larger_than_the_patterns(self):
-        deep = [("p", ("p", "X", "Y"), ("p", "Z", "W")), ("p", A, "X"), ("p", "X", A)]
-        signature = Signature([("a", 0, False), ("p", 2, False), ("g", 1, False)])
-        patterns = [("g", "X"), A] + deep[1:] + [("p", ("p", "X", "Y"), ("g", "Z"))]
-        for chosen in (deep, patterns):
-            pairs = kinds_of(signature, chosen)
-            for kind, term in pairs:
-                self.assertEqual(kind, kind_of(signature, chosen, term))
-        pattern = comb("f", [f"X{k}" for k in range(6)])
-        pairs = kinds_of(Signature([("a", 0, False), ("f", 2, True)]), [pattern, ("f", ("f", "X", "Y"), ("f", "Z", "W"))])
-        kind, term = pairs[-1]
-        self.assertLess(11, size(term))
-        self.assertEqual(len(pattern_parts(S, [pattern])) + 1, len(kind))
+        signature = Signature([("a", 0, False), ("f", 2, True)])
+        lists = [[("f", ("f", "X", "Y"), ("f", A, ("f", "Z", "W"))), ("f", ("f", "X", A), ("f", "Y", "Z")),
+                  ("f", ("f", ("f", "X", ("f", "Y", A)), "Z"), "W")],
+                 [("f", A, ("f", ("f", "X", A), A)), ("f", ("f", "X", "Y"), ("f", A, "Z")),
+                  ("f", "X", ("f", ("f", ("f", "Y", ("f", A, "Z")), "W"), "V"))]]
+        for patterns, largest in zip(lists, (63, 127)):
+            pairs = kinds_of(signature, patterns)
+            self.assertEqual(largest, size(pairs[-1][1]))
+            parts = pattern_parts(signature, patterns)
+            counts = [count_kinds(signature, patterns, many) for many in range(41)]
+            for index, (kind, term) in enumerate(pairs):
+                self.assertEqual(kind, tuple(k for k, part in enumerate(parts) if is_case(signature, (term,), (part,))))
+                with_kind = [many for many in range(41) if counts[many][index] > 0]
+                self.assertEqual([size(term)] if size(term) <= 40 else [], with_kind[:1])
 
     def test_no_kind_without_a_constant(self):
         for patterns in ([], ["X"], [("f", "X", ("g", "Y"))]):

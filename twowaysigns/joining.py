@@ -90,7 +90,8 @@ def _followed(graph, joined, pairs):
     unread = list(pairs)
     left = []
     while unread:
-        one, two = [_stand_in(news, number) for number in unread.pop()]
+        pair = unread.pop()
+        one, two = [_stand_in(news, number) for number in pair]
         if one == two:
             continue
         if is_open(graph.heads[two]) or graph.closed[one]:
