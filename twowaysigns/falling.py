@@ -55,7 +55,7 @@ def _alternating_books(everything, chains, verdicts):
     rows = [[] for _ in range(len(common) + 1)]
     for counts in common:
         changes[counts] = _most_changes(counts, changes, verdicts)
-        rows[changes[counts]].extend(list(common[counts]))
+        rows[changes[counts]] = rows[changes[counts]] + list(common[counts])
     return [Book(everything.signature, everything.width, found) for found in rows[1:] if found]
 
 

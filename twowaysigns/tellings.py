@@ -95,8 +95,10 @@ def _lesser(one, two):
 
 
 def _number(name, state):
-    if name != SINGLE and name in state:
-        return state.index(name) + 1
+    if name != SINGLE:
+        for index, known in enumerate(state):
+            if known == name:
+                return index + 1
     return len(state) + 1
 
 
