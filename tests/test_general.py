@@ -7,12 +7,16 @@ from twowaysigns.above import nearest_above
 from twowaysigns.books import Book
 from twowaysigns.closedrows import closed_row
 from twowaysigns.closedterms import closed_terms, count_closed
+from twowaysigns.completion import Completion, complete, replay
 from twowaysigns.covers import Coverage, coverage
 from twowaysigns.fillings import composed, fill_row, fill_term
 from twowaysigns.kinds import are_closed_kinds, count_kinds, kind_of, kinds_of, pattern_parts
 from twowaysigns.layers import Layers, parting
 from twowaysigns.matching import is_case, matches_of
+from twowaysigns.meetings import meetings_of, two_ends
 from twowaysigns.orders import Order
+from twowaysigns.partingworlds import parting_world
+from twowaysigns.rules import Rules, end_of, run_of, steps_of
 from twowaysigns.sayings import Saying
 from twowaysigns.shelves import Shelf
 from twowaysigns.sides import are_alike, even_places, least_writing, turned, two_way_places
@@ -24,6 +28,7 @@ from twowaysigns.terms import (check_term, part_at, places_of, replaced_at, row_
 from twowaysigns.trees import answers_of, tree_of
 from twowaysigns.turnings import count_turnings, own_turnings, turnings_of
 from twowaysigns.wishes import Wishes
+from twowaysigns.worlds import World
 
 S = Signature(SYMBOLS)
 TERM = ("f", ("f", "Y", "X"), ("f", "X", ("g", ("a",))))
@@ -35,6 +40,9 @@ SAYING = ~Saying(WISHES)
 LAYERS = Layers.of(SAYING)
 PATTERNS = ["X", ("f", ("a",), ("g", "Y")), ("g", "X")]
 ORDER = Order(S, [1, 1, 1, 1, 1])
+PAIRS = [(("f", ("g", "X"), "Y"), ("g", "X")), (("f", "X", "X"), ("a",))]
+RULES = Rules(ORDER, PAIRS)
+WORLD = World(S, 2, [[0], [1], [0, 1, 1, 0], [1, 0], [0, 0, 1, 1]])
 CALLS = [
     (check_term, {"signature": S, "value": TERM}),
     (size_of, {"term": TERM}),
@@ -86,7 +94,22 @@ CALLS = [
     (Order, {"signature": S, "weights": [1, 2, 3, 4, 5]}),
     (ORDER.weight, {"term": TERM}),
     (ORDER.compare, {"s": TERM, "t": "X"}),
+    (Rules, {"order": ORDER, "pairs": PAIRS}),
+    (steps_of, {"rules": RULES, "term": TERM}),
+    (run_of, {"rules": RULES, "term": TERM}),
+    (end_of, {"rules": RULES, "term": TERM}),
+    (meetings_of, {"rules": RULES}),
+    (two_ends, {"rules": RULES}),
+    (replay, {"order": ORDER, "equations": PAIRS, "lines": [("orient", 0), ("reduce", 0), ("orient", 0)]}),
+    (complete, {"order": ORDER, "equations": PAIRS, "limit": 3}),
+    (World, {"signature": S, "size": 1, "tables": [[0], (0,), [0], (0,), [0]]}),
+    (WORLD.value, {"term": TERM, "values": [("X", 0), ("Y", 1)]}),
+    (WORLD.counter, {"pair": (TERM, "X")}),
+    (WORLD.holds, {"pair": (TERM, TERM)}),
+    (parting_world, {"signature": S, "one": TERM, "two": "X", "given": [(("a",), ("b",))]}),
 ]
+# Which of their parameters are passed by keyword only.
+KEYWORDS_ONLY = {complete: ["limit"], parting_world: ["given"]}
 
 
 def called(function, *args, **keywords):
@@ -96,6 +119,14 @@ def called(function, *args, **keywords):
         return result.missed, result.doubled, result.reached
     if isinstance(result, Order):
         return result.signature.symbols, result.weights
+    if isinstance(result, Rules):
+        return called(Order, result.order.signature, result.order.weights), result.pairs
+    if isinstance(result, Completion):
+        return result.status, result.rules.pairs, result.left, result.lines
+    if isinstance(result, World):
+        return result.signature.symbols, result.size, result.tables
+    if function is parting_world:
+        return result[0].size, result[0].tables, result[1]
     return tuple(result) if function in (turnings_of, closed_terms) else result
 
 
@@ -108,7 +139,9 @@ class GeneralTest(Case):
             for passed in (keywords, tuples):
                 before = copy.deepcopy({name: value for name, value in passed.items()
                                         if isinstance(value, (list, tuple))})
-                self.assertEqual(expected, called(function, *passed.values()), function)
+                only = KEYWORDS_ONLY.get(function, [])
+                by_place = [value for name, value in passed.items() if name not in only]
+                self.assertEqual(expected, called(function, *by_place, **{name: passed[name] for name in only}))
                 self.assertEqual(expected, called(function, **passed), function)
                 for name, value in before.items():
                     self.assertEqual(value, passed[name], function)
@@ -124,7 +157,7 @@ class GeneralTest(Case):
                 self.only_tuples(result.rows)
             elif function not in (term_order, row_order, coverage):
                 self.only_tuples(result)
-            if function in (are_alike, is_case, BOOK.within, SAYING.is_met, LAYERS.within, are_closed_kinds):
+            if function in (are_alike, is_case, BOOK.within, SAYING.is_met, LAYERS.within, are_closed_kinds, WORLD.holds):
                 self.assertIs(True, result)
 
     def test_objects_keep_their_fields(self):

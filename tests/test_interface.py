@@ -28,6 +28,10 @@ FUNCTIONS = {
               "kinds_of": "signature patterns", "are_closed_kinds": "signature patterns kinds",
               "count_kinds": "signature patterns size"},
     "covers": {"coverage": "signature patterns"},
+    "rules": {"steps_of": "rules term", "run_of": "rules term", "end_of": "rules term"},
+    "meetings": {"meetings_of": "rules", "two_ends": "rules"},
+    "completion": {"replay": "order equations lines", "complete": "order equations limit"},
+    "partingworlds": {"parting_world": "signature one two given"},
 }
 CLASSES = {
     "signatures": {"Signature": {"__init__": "symbols", "arity": "name", "rank": "name", "is_two_way": "name",
@@ -46,6 +50,10 @@ CLASSES = {
                           "__contains__": "row", "__eq__": "other"}},
     "covers": {"Coverage": {}},
     "orders": {"Order": {"__init__": "signature weights", "weight": "term", "compare": "s t"}},
+    "rules": {"Rules": {"__init__": "order pairs"}},
+    "completion": {"Completion": {}},
+    "worlds": {"World": {"__init__": "signature size tables", "value": "term values", "counter": "pair",
+                         "holds": "pair"}},
 }
 PROPERTIES = {("wishes", "Wishes"): ["helpers"], ("books", "Book"): ["is_empty"], ("sayings", "Saying"): ["lists"],
               ("layers", "Layers"): ["is_empty"]}

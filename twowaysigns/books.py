@@ -26,7 +26,7 @@ class Book:
     @classmethod
     def everything(cls, signature, width):
         """Return the book of all rows of the width."""
-        return cls(signature, width, [tuple([f"V{place + 1}" for place in range(width)])])
+        return cls(signature, width, (widest_row(width),))
 
     @property
     def is_empty(self):
@@ -75,6 +75,11 @@ class Book:
 
     def __iter__(self):
         return iter(self.rows)
+
+
+def widest_row(width):
+    """Return the row of which all rows of the width are cases."""
+    return tuple([f"V{place + 1}" for place in range(width)])
 
 
 def check_fit(one, two):

@@ -6,7 +6,7 @@ from twowaysigns.books import Book
 from twowaysigns.closedterms import ClosedTerms
 from twowaysigns.errors import FewClosedTerms, HasHelpers
 from twowaysigns.fillings import fill_row
-from twowaysigns.layers import Layers
+from twowaysigns.layers import layers_of
 from twowaysigns.sides import least_writing
 from twowaysigns.terms import row_occurrences, row_variables, size_of
 
@@ -19,7 +19,7 @@ def closed_row(saying):
     arities = [arity for _, arity, _ in saying.signature.symbols]
     if 0 not in arities or max(arities) == 0:
         raise FewClosedTerms()
-    row = _least_case(Layers.of(saying))
+    row = _least_case(layers_of(saying))
     return None if row is None else tuple([least_writing(saying.signature, term) for term in row])
 
 
@@ -48,7 +48,7 @@ def _least_case(layers):
     closed = ClosedTerms(layers.signature)
     attempts = []
     queue = []
-    behind = layers.books[1:] + (Book.nothing(layers.signature, layers.width),)
+    behind = layers.books[1:] + (Book(layers.signature, layers.width, ()),)
     for book, barred in list(zip(layers.books, behind))[::2]:
         for row in book:
             _put(queue, attempts, sum([size_of(term) for term in row]), Attempt(row, barred, 0))

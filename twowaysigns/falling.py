@@ -37,7 +37,7 @@ def _book_around(everything, books):
     and not in the next one; and a widest row of a book has none of these as a case if it is in the
     next one itself.
     """
-    behind = books[1:] + [Book.nothing(everything.signature, everything.width)]
+    behind = books[1:] + [Book(everything.signature, everything.width, ())]
     rows = [row for book, following in list(zip(books, behind))[::2] for row in book if row not in following]
     return Book(everything.signature, everything.width, rows)
 

@@ -1,6 +1,6 @@
 """Layers: sets of rows, told by one falling sequence of books."""
 
-from twowaysigns.books import Book, check_fit
+from twowaysigns.books import Book, check_fit, widest_row
 from twowaysigns.errors import BooksDiffer
 from twowaysigns.falling import all_counts, falling_books
 from twowaysigns.solving import widest
@@ -17,14 +17,12 @@ class Layers:
         self.width = width
         chains = _chains_of(books)
         verdicts = {counts: sum(counts) % 2 == 1 for counts in all_counts(chains)}
-        self.books = falling_books(Book.everything(signature, width), chains, verdicts)
+        self.books = falling_books(Book(signature, width, (widest_row(width),)), chains, verdicts)
 
     @classmethod
     def of(cls, saying):
         """Return the set of all rows that meet the saying."""
-        chains = [[widest(wishes)] for wishes in saying.lists]
-        verdicts = {counts: saying.verdict([many == 1 for many in counts]) for counts in all_counts(chains)}
-        return _set_of_rows(saying.signature, len(saying.asked), chains, verdicts)
+        return layers_of(saying)
 
     @property
     def is_empty(self):
@@ -59,6 +57,13 @@ class Layers:
         if not isinstance(other, Layers):
             return False
         return self.signature == other.signature and self.width == other.width and self.books == other.books
+
+
+def layers_of(saying):
+    """Return the set of all rows that meet the saying."""
+    chains = [[widest(wishes)] for wishes in saying.lists]
+    verdicts = {counts: saying.verdict([many == 1 for many in counts]) for counts in all_counts(chains)}
+    return _set_of_rows(saying.signature, len(saying.asked), chains, verdicts)
 
 
 def parting(one, two):
@@ -96,5 +101,5 @@ def _combined(one, two, table):
 
 def _set_of_rows(signature, width, chains, verdicts):
     layers = Layers(signature, width, ())
-    layers.books = falling_books(Book.everything(signature, width), chains, verdicts)
+    layers.books = falling_books(Book(signature, width, (widest_row(width),)), chains, verdicts)
     return layers

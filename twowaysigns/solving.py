@@ -7,23 +7,27 @@ from twowaysigns.joining import can_join, joined_row, ways_to_join
 
 def widest(wishes):
     """Return the book of all rows that meet the wishes."""
-    graph = graph_of(wishes.signature, _marked_rows(wishes))
+    return book_of_cases(wishes.signature, wishes.asked, wishes.pairs)
+
+
+def book_of_cases(signature, row, pairs):
+    """Return the book of what becomes of the row by all fillings that make the sides of each pair alike."""
+    graph = graph_of(signature, _open_rows(row, pairs))
     ways = ways_to_join(graph, _wished_pairs(graph), False)
-    rows = [joined_row(graph, joined, graph.rows[0]) for joined in ways]
-    return Book(wishes.signature, len(wishes.asked), rows)
+    return Book(signature, len(row), [joined_row(graph, joined, graph.rows[0]) for joined in ways])
 
 
 def meets(wishes, row):
     """Tell whether the row meets the wishes."""
     if len(row) != len(wishes.asked):
         return False
-    graph = graph_of(wishes.signature, _marked_rows(wishes) + [(FROZEN, row)])
+    graph = graph_of(wishes.signature, _open_rows(wishes.asked, wishes.pairs) + [(FROZEN, row)])
     return can_join(graph, list(zip(graph.rows[0], graph.rows[2])) + _wished_pairs(graph))
 
 
 def clashes(wishes):
     """Return all sets of indexes of pairs that no row meets together, though it may meet all but one of them."""
-    graph = graph_of(wishes.signature, _marked_rows(wishes))
+    graph = graph_of(wishes.signature, _open_rows(wishes.asked, wishes.pairs))
     pairs = _wished_pairs(graph)
     found = []
     for indexes in _chosen_indexes(len(pairs)):
@@ -32,8 +36,8 @@ def clashes(wishes):
     return tuple(found)
 
 
-def _marked_rows(wishes):
-    return [(OPEN, wishes.asked), (OPEN, [side for pair in wishes.pairs for side in pair])]
+def _open_rows(row, pairs):
+    return [(OPEN, row), (OPEN, [side for pair in pairs for side in pair])]
 
 
 def _wished_pairs(graph):
