@@ -9,11 +9,16 @@ from twowaysigns.closedrows import closed_row
 from twowaysigns.closedterms import closed_terms, count_closed
 from twowaysigns.completion import Completion, complete, replay
 from twowaysigns.covers import Coverage, coverage
+from twowaysigns.derivedrules import derive_closed, derive_completion
+from twowaysigns.deriving import derive_alike, derive_end
+from twowaysigns.desks import Desk, Trial, perform, perform_within
 from twowaysigns.fillings import composed, fill_row, fill_term
+from twowaysigns.kernel import conclusions
 from twowaysigns.kinds import are_closed_kinds, count_kinds, kind_of, kinds_of, pattern_parts
 from twowaysigns.layers import Layers, parting
 from twowaysigns.matching import is_case, matches_of
 from twowaysigns.meetings import meetings_of, two_ends
+from twowaysigns.notes import format_wishes, parse_wishes
 from twowaysigns.orders import Order
 from twowaysigns.partingworlds import parting_world
 from twowaysigns.rules import Rules, end_of, run_of, steps_of
@@ -25,6 +30,7 @@ from twowaysigns.solving import clashes, meets, widest
 from twowaysigns.tellings import least_telling
 from twowaysigns.terms import (check_term, part_at, places_of, replaced_at, row_order, row_variables, size_of,
                                term_order, variables_of)
+from twowaysigns.texts import format_term, parse_term
 from twowaysigns.trees import answers_of, tree_of
 from twowaysigns.turnings import count_turnings, own_turnings, turnings_of
 from twowaysigns.wishes import Wishes
@@ -42,6 +48,8 @@ PATTERNS = ["X", ("f", ("a",), ("g", "Y")), ("g", "X")]
 ORDER = Order(S, [1, 1, 1, 1, 1])
 PAIRS = [(("f", ("g", "X"), "Y"), ("g", "X")), (("f", "X", "X"), ("a",))]
 RULES = Rules(ORDER, PAIRS)
+# No call below leaves a deed on it.
+DESK = Desk(S, ["X", "Y"])
 WORLD = World(S, 2, [[0], [1], [0, 1, 1, 0], [1, 0], [0, 0, 1, 1]])
 CALLS = [
     (check_term, {"signature": S, "value": TERM}),
@@ -107,9 +115,25 @@ CALLS = [
     (WORLD.counter, {"pair": (TERM, "X")}),
     (WORLD.holds, {"pair": (TERM, TERM)}),
     (parting_world, {"signature": S, "one": TERM, "two": "X", "given": [(("a",), ("b",))]}),
+    (conclusions, {"signature": S, "axioms": PAIRS, "lines": [("axiom", 1), ("fill", 0, (("X", TERM),)), ("back", 1)]}),
+    (derive_alike, {"signature": S, "one": TERM, "two": ("f", TERM[2], TERM[1])}),
+    (derive_end, {"rules": RULES, "term": TERM}),
+    (derive_closed, {"signature": S, "equations": [(("a",), ("b",))], "one": ("f", "X", ("a",)),
+                     "two": ("f", ("b",), "X")}),
+    (derive_completion, {"order": ORDER, "equations": PAIRS, "lines": [("orient", 0), ("meet", 0), ("reduce", 1)]}),
+    (format_term, {"term": TERM}),
+    (parse_term, {"signature": S, "text": "f(X, p(a, Y))"}),
+    (format_wishes, {"wishes": WISHES}),
+    (parse_wishes, {"signature": S, "text": "X, Y: f(X, a) = f(b, Y); X = X1"}),
+    (Desk, {"signature": S, "asked": ["X", "Y"]}),
+    (DESK.back, {"mark": 0}),
+    (Trial, {"desk": DESK}),
+    (perform, {"desk": DESK, "script": [("wish", "X", "Y"), ("trial", (("back", 0), ("bar", "Z", "X"))), ("back", 0)],
+               "strict": False}),
+    (perform_within, {"trial": Trial(DESK), "script": [("bar", "X", "Y"), ("back", 0)], "strict": True}),
 ]
 # Which of their parameters are passed by keyword only.
-KEYWORDS_ONLY = {complete: ["limit"], parting_world: ["given"]}
+KEYWORDS_ONLY = {complete: ["limit"], parting_world: ["given"], perform: ["strict"], perform_within: ["strict"]}
 
 
 def called(function, *args, **keywords):
@@ -125,6 +149,12 @@ def called(function, *args, **keywords):
         return result.status, result.rules.pairs, result.left, result.lines
     if isinstance(result, World):
         return result.signature.symbols, result.size, result.tables
+    if isinstance(result, Wishes):
+        return result.signature.symbols, result.asked, result.pairs
+    if isinstance(result, Desk):
+        return result.signature.symbols, result.asked, result.deeds
+    if isinstance(result, Trial):
+        return result.desk.deeds
     if function is parting_world:
         return result[0].size, result[0].tables, result[1]
     return tuple(result) if function in (turnings_of, closed_terms) else result
@@ -149,7 +179,7 @@ class GeneralTest(Case):
     def test_what_is_returned(self):
         for function, keywords in CALLS:
             result = called(function, **keywords)
-            if function is check_term:
+            if function in (check_term, DESK.back):
                 self.assertIsNone(result)
             elif isinstance(result, Layers):
                 self.only_tuples(tuple(book.rows for book in result.books))
@@ -157,7 +187,8 @@ class GeneralTest(Case):
                 self.only_tuples(result.rows)
             elif function not in (term_order, row_order, coverage):
                 self.only_tuples(result)
-            if function in (are_alike, is_case, BOOK.within, SAYING.is_met, LAYERS.within, are_closed_kinds, WORLD.holds):
+            if function in (are_alike, is_case, BOOK.within, SAYING.is_met, LAYERS.within, are_closed_kinds,
+                            WORLD.holds):
                 self.assertIs(True, result)
 
     def test_objects_keep_their_fields(self):

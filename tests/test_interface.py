@@ -32,6 +32,12 @@ FUNCTIONS = {
     "meetings": {"meetings_of": "rules", "two_ends": "rules"},
     "completion": {"replay": "order equations lines", "complete": "order equations limit"},
     "partingworlds": {"parting_world": "signature one two given"},
+    "kernel": {"conclusions": "signature axioms lines"},
+    "deriving": {"derive_alike": "signature one two", "derive_end": "rules term"},
+    "derivedrules": {"derive_closed": "signature equations one two", "derive_completion": "order equations lines"},
+    "texts": {"format_term": "term", "parse_term": "signature text"},
+    "notes": {"format_wishes": "wishes", "parse_wishes": "signature text"},
+    "desks": {"perform": "desk script strict", "perform_within": "trial script strict"},
 }
 CLASSES = {
     "signatures": {"Signature": {"__init__": "symbols", "arity": "name", "rank": "name", "is_two_way": "name",
@@ -54,10 +60,15 @@ CLASSES = {
     "completion": {"Completion": {}},
     "worlds": {"World": {"__init__": "signature size tables", "value": "term values", "counter": "pair",
                          "holds": "pair"}},
+    "desks": {"Desk": {"__init__": "signature asked", "wish": "one two", "bar": "one two", "mark": "", "back": "mark"},
+              "Trial": {"__init__": "desk", "__enter__": "", "__exit__": "kind value trace"}},
 }
 PROPERTIES = {("wishes", "Wishes"): ["helpers"], ("books", "Book"): ["is_empty"], ("sayings", "Saying"): ["lists"],
-              ("layers", "Layers"): ["is_empty"]}
+              ("layers", "Layers"): ["is_empty"], ("desks", "Desk"): ["deeds", "book", "layers"]}
 CLASS_METHODS = {("books", "Book"): ["nothing", "everything"], ("layers", "Layers"): ["of"]}
+KEYWORDS_ONLY = {"told_back": ["two_way", "pair"], "complete": ["limit"], "parting_world": ["given"],
+                 "perform": ["strict"], "perform_within": ["strict"]}
+DEFAULTS = {"parting_world": {"given": ()}, "perform": {"strict": False}, "perform_within": {"strict": False}}
 PACKAGE = pathlib.Path(importlib.import_module("twowaysigns").__file__).parent
 LIBRARY = ("heapq", "math", "itertools", "collections")
 
@@ -69,7 +80,12 @@ class InterfaceTest(unittest.TestCase):
             for name, parameters in functions.items():
                 function = getattr(importlib.import_module(f"twowaysigns.{module}"), name)
                 self.assertEqual(f"twowaysigns.{module}", function.__module__)
-                self.assertEqual(parameters.split(), list(inspect.signature(function).parameters), name)
+                found = inspect.signature(function).parameters
+                self.assertEqual(parameters.split(), list(found), name)
+                by_name = [key for key, parameter in found.items() if parameter.kind == parameter.KEYWORD_ONLY]
+                self.assertEqual(KEYWORDS_ONLY.get(name, []), by_name, name)
+                self.assertEqual(DEFAULTS.get(name, {}), {key: parameter.default for key, parameter in found.items()
+                                                          if parameter.default is not parameter.empty}, name)
 
     def test_methods_are_defined_in_their_classes(self):
         for module, classes in CLASSES.items():

@@ -2,7 +2,8 @@
 
 import random
 
-from tests.helpers import SYMBOLS, Case, alike_by_words, at, balanced, comb, every_place, occurrences, random_term, tower
+from tests.helpers import (SYMBOLS, Case, alike_by_words, at, balanced, comb, every_place, occurrences, random_term,
+                           tower)
 from tests.searches import counters_by_words, equal_by_search, put_at, things_said, value_by_words
 from tests.test_orders import turned_at_random
 from twowaysigns.errors import NotClosed

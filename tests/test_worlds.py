@@ -133,8 +133,8 @@ class CounterTest(Case):
     def test_counters(self):
         world = World(S, 2, TWO)
         for pair, expected in [
-                (("X", "X"), None), (("X", "Y"), (("X", 0), ("Y", 1))), (("X", A), (("X", 1),)), ((B, "X"), (("X", 0),)),
-                ((A, B), ()), ((A, ("g", B)), None), ((("f", A, B), ("f", B, A)), None),
+                (("X", "X"), None), (("X", "Y"), (("X", 0), ("Y", 1))), (("X", A), (("X", 1),)),
+                ((B, "X"), (("X", 0),)), ((A, B), ()), ((A, ("g", B)), None), ((("f", A, B), ("f", B, A)), None),
                 ((("p", "X", "Y"), "X"), None), ((("p", "X", "Y"), "Y"), (("X", 0), ("Y", 1))),
                 ((("f", "Y", "X2"), ("f", "X1", "Y")), (("Y", 0), ("X1", 0), ("X2", 1))),
                 ((("f", ("f", "X", "Y"), "Z"), ("f", "X", ("f", "Y", "Z"))), None),

@@ -3,6 +3,7 @@
 SMALL_LETTERS = "abcdefghijklmnopqrstuvwxyz"
 GREAT_LETTERS = "ABCDEFGHIJKLMNOPQRSTUVWXYZ"
 DIGITS = "0123456789"
+LONGEST_VARIABLE = 6
 
 
 def is_symbol_name(text):
@@ -12,7 +13,7 @@ def is_symbol_name(text):
 
 def is_variable(text):
     """Tell whether the string is a variable."""
-    return 1 <= len(text) <= 6 and text[0] in GREAT_LETTERS and _consists_of(text[1:], DIGITS)
+    return 1 <= len(text) <= LONGEST_VARIABLE and text[0] in GREAT_LETTERS and _consists_of(text[1:], DIGITS)
 
 
 def in_variable_order(variables):
