@@ -248,6 +248,15 @@ class CompleteTest(CompletionCase):
                 self.assertEqual("complete", found.status)
                 self.assertEqual(Book(S, 2, rules), Book(S, 2, found.rules.pairs))
 
+    def test_rules_that_are_shortened_or_retired(self):
+        for word, equations, rules in [
+                ("shorten", [(("g", "X"), A), (B, ("g", "X"))], [(("g", "X"), A), (B, A)]),
+                ("retire", [(("g", B), A), (("g", B), B)], [(B, A), (("g", A), A)])]:
+            found = self.completed(equations)
+            self.assertIn(word, [line[0] for line in found.lines])
+            self.assertEqual("complete", found.status)
+            self.assertEqual(Book(S, 2, rules), Book(S, 2, found.rules.pairs))
+
     def test_stuck(self):
         swapped = (("p", "X", "Y"), ("p", "Y", "X"))
         sides = (("f", "X", ("f", "Y", "Z")), ("f", ("f", "X", "Y"), "Z"))

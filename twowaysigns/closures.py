@@ -46,7 +46,7 @@ class Closure:
         arguments = [self.classes[argument] for argument in head[1:]]
         return head[:1] + tuple(sorted(arguments) if self.signature.is_two_way(head[0]) else arguments)
 
-    def join(self, one, two, reason):
+    def unite(self, one, two, reason):
         """Make one class of those of two terms, if they are not of one class already."""
         old, new = self.classes[one], self.classes[two]
         if old != new:
@@ -55,7 +55,7 @@ class Closure:
             self.joinings.append((one, two, reason))
             self.classes = [new if known == old else known for known in self.classes]
 
-    def join_all(self):
+    def unite_all(self):
         """Join all applications of the same symbol to equal arguments."""
         before = -1
         while before < len(self.joinings):
@@ -63,7 +63,7 @@ class Closure:
             known = {}
             for number in range(len(self.heads)):
                 other = known.setdefault(self.key_of(number), number)
-                self.join(number, other, self._reason(number, other))
+                self.unite(number, other, self._reason(number, other))
 
     def way_between(self, one, two):
         """Return the joinings on the way between two terms of one class, as (index, whether it is taken backwards)."""
@@ -98,6 +98,6 @@ def closure_of(signature, row, equations):
     for term in row:
         closure.number_of(term)
     for index, (one, two) in enumerate(equations):
-        closure.join(closure.number_of(one), closure.number_of(two), index)
-    closure.join_all()
+        closure.unite(closure.number_of(one), closure.number_of(two), index)
+    closure.unite_all()
     return closure

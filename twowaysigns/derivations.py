@@ -49,7 +49,7 @@ class Derivation:
             return second
         return first if middle == two else self._add(("chain", first, second), (one, two))
 
-    def within(self, name, indexes):
+    def wrapped(self, name, indexes):
         """Conclude that applications of the symbol to the sides of these lines are equal."""
         pairs = [self._pairs[index] for index in indexes]
         ones, twos = [tuple([pair[side] for pair in pairs]) for side in (0, 1)]
@@ -73,9 +73,9 @@ def alike_line(derivation, one, two):
     name, *twos = two
     turned = twos[::-1]
     if not is_two_way_part(derivation.signature, one) or _are_rows_alike(derivation.signature, one[1:], twos):
-        return derivation.within(name, [alike_line(derivation, first, other) for first, other in zip(one[1:], twos)])
+        return derivation.wrapped(name, [alike_line(derivation, first, other) for first, other in zip(one[1:], twos)])
     crossed = [alike_line(derivation, first, other) for first, other in zip(one[1:], turned)]
-    return derivation.chained(derivation.within(name, crossed), derivation.swapped(name, turned[0], turned[1]))
+    return derivation.chained(derivation.wrapped(name, crossed), derivation.swapped(name, turned[0], turned[1]))
 
 
 def step_line(derivation, rule, term, step):
@@ -92,7 +92,7 @@ def step_line(derivation, rule, term, step):
         name, *arguments = part_at(term, place[:depth])
         lines = [line if index == place[depth] else derivation.same(argument)
                  for index, argument in enumerate(arguments)]
-        line = derivation.within(name, lines)
+        line = derivation.wrapped(name, lines)
     return line
 
 

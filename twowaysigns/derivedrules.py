@@ -68,7 +68,7 @@ def _joining_line(derivation, closure, joined, joining):
     lines = [_equal_line(derivation, closure, joined, first, second)
              for first, second in _argument_pairs(closure, joining)]
     name, *arguments = closure.terms[two]
-    line = derivation.within(name, lines)
+    line = derivation.wrapped(name, lines)
     if reason == STRAIGHT:
         return line
     return derivation.chained(line, derivation.swapped(name, arguments[1], arguments[0]))

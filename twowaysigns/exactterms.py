@@ -20,8 +20,8 @@ class ExactTerms:
             if isinstance(part, str):
                 known.append(self.applied(part, ()))
             else:
-                arguments = [known.pop() for _ in part[1:]]
-                known.append(self.applied(part[0], tuple(arguments)))
+                arguments = tuple(known[:-len(part):-1])
+                known = known[:len(known) - len(arguments)] + [self.applied(part[0], arguments)]
         return known[0]
 
     def applied(self, name, numbers):

@@ -3,7 +3,7 @@
 from twowaysigns.closures import closure_of
 from twowaysigns.names import in_variable_order
 from twowaysigns.terms import row_variables
-from twowaysigns.worlds import World
+from twowaysigns.worlds import World, place_in_table, table_length
 
 
 def parting_world(signature, one, two, *, given=()):
@@ -26,19 +26,12 @@ def _tables(closure, things):
     """Return the table of each symbol."""
     rest = len(things)
     size = rest + 1
-    tables = [[rest] * (1, size, size * size)[arity] for _, arity, _ in closure.signature.symbols]
+    tables = [[rest] * table_length(size, arity) for _, arity, _ in closure.signature.symbols]
     for number, head in enumerate(closure.heads):
         rank = closure.signature.rank(head[0])
         if rank is not None:
             arguments = [things[closure.classes[argument]] for argument in head[1:]]
             orders = [arguments, arguments[::-1]] if closure.signature.is_two_way(head[0]) else [arguments]
             for order in orders:
-                tables[rank][_place_of(order, size)] = things[closure.classes[number]]
+                tables[rank][place_in_table(size, order)] = things[closure.classes[number]]
     return tables
-
-
-def _place_of(arguments, size):
-    place = 0
-    for argument in arguments:
-        place = place * size + argument
-    return place

@@ -43,14 +43,28 @@ class World:
     def _thing(self, term, named):
         if isinstance(term, str):
             return named[term]
-        place = 0
-        for argument in term[1:]:
-            place = place * self.size + self._thing(argument, named)
-        return self.tables[self.signature.rank(term[0])][place]
+        things = [self._thing(argument, named) for argument in term[1:]]
+        return self.tables[self.signature.rank(term[0])][place_in_table(self.size, things)]
+
+
+def table_length(size, arity):
+    """Return the number of items of a table for a symbol with this arity."""
+    length = 1
+    for _ in range(arity):
+        length = length * size
+    return length
+
+
+def place_in_table(size, things):
+    """Return the index in a table that belongs to these arguments."""
+    place = 0
+    for thing in things:
+        place = place * size + thing
+    return place
 
 
 def _is_table(size, arity, two_way, table):
-    if len(table) != (1, size, size * size)[arity]:
+    if len(table) != table_length(size, arity):
         return False
     for thing in table:
         if not 0 <= thing < size:
