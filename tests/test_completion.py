@@ -21,6 +21,7 @@ AB = ("f", A, B)
 UNIT = (("f", "X", A), "X")
 FOLD = (("g", ("g", "X")), "X")
 WORDS = ["drop", "reduce", "orient", "meet", "retire", "shorten"]
+LINES = [(word, k) for word in WORDS for k in range(-1, 5)]
 # Each leads to other states: drops, two orientations, meetings, rules that are retired or shortened, and none at all.
 STARTS = [
     [],
@@ -28,6 +29,7 @@ STARTS = [
     [("X", ("g", ("g", "X"))), (("g", ("g", ("g", "X"))), A), (("g", A), B)],
     [UNIT, (("f", "X", "X"), A), (("f", "X", ("g", "X")), A)],
     [(("g", ("f", "X", "Y")), ("f", "Y", "X")), (("p", "X", "Y"), ("p", "Y", "X")), (("g", A), A)],
+    [(("g", B), A), (B, A), (("g", "X"), "X")],
 ]
 
 
@@ -45,6 +47,29 @@ def random_equations(rng, variables=("X", "Y"), most=4):
 def compare_with(order):
     """Return the comparison of two terms by the order, by the sentences of point 41."""
     return lambda s, t: compared_by_words(order, s, t)
+
+
+def lines_that_fit(state):
+    """Return those of the lines that may be applied to the state, a pair of rules and equations."""
+    return [line for line in LINES if made_by_words(compare_with(ONES), state, line) is not None]
+
+
+def random_walk(rng, start):
+    """Return random lines that may be applied one after the other, and the states before, between and behind them."""
+    lines, states = [], [((), tuple(start))]
+    while len(lines) < 8:
+        fitting = lines_that_fit(states[-1])
+        if not fitting:
+            break
+        words = sorted({line[0] for line in fitting})
+        # Few states have a rule that can be retired.
+        word = "retire" if "retire" in words and rng.random() < 0.7 else rng.choice(words)
+        line = rng.choice([line for line in fitting if line[0] == word])
+        if word == "meet" and len(states[-1][1]) > 4:
+            break
+        lines.append(line)
+        states.append(made_by_words(compare_with(ONES), states[-1], line))
+    return lines, states
 
 
 def oriented(lines):
@@ -151,23 +176,15 @@ class ReplayTest(Case):
         rng = random.Random(4801)
         made = {word: 0 for word in WORDS}
         for start in STARTS * 4:
-            state, lines = ((), tuple(start)), []
-            for _ in range(8):
-                options = [(word, k) for word in WORDS for k in range(-1, 5)]
-                fitting = [line for line in options if made_by_words(compare_with(ONES), state, line) is not None]
-                for line in rng.sample(options, 6):
+            lines, states = random_walk(rng, start)
+            for many, state in enumerate(states):
+                self.same(state, replay(ONES, start, lines[:many]))
+                fitting = lines_that_fit(state)
+                for line in rng.sample(LINES, 6):
                     if line not in fitting:
-                        self.bad(len(lines), lines + [line], start)
-                if not fitting:
-                    break
-                word = rng.choice(sorted({line[0] for line in fitting}))
-                line = rng.choice([line for line in fitting if line[0] == word])
-                if len(state[1]) > 4 and word == "meet" or oriented(lines + [line]) > 8:
-                    break
+                        self.bad(many, lines[:many] + [line], start)
+            for word, _ in lines:
                 made[word] += 1
-                lines.append(line)
-                state = made_by_words(compare_with(ONES), state, line)
-                self.same(state, replay(ONES, start, lines))
         self.assertGreater(min(made.values()), 2, made)
 
     def test_what_is_passed_stays_as_it_was(self):

@@ -3,8 +3,8 @@
 import random
 
 from tests.helpers import SYMBOLS, tower
-from tests.searches import conclusions_by_words, equal_by_search, made_by_words
-from tests.test_completion import STARTS, WORDS, compare_with, oriented, random_equations
+from tests.searches import conclusions_by_words, equal_by_search
+from tests.test_completion import STARTS, WORDS, random_equations, random_walk
 from tests.test_deriving import DeriveCase
 from tests.test_orders import ORDERS
 from tests.test_partingworlds import random_problem
@@ -110,21 +110,11 @@ class CompletionTest(DeriveCase):
     def test_all_lines(self):
         rng = random.Random(5504)
         made = {word: 0 for word in WORDS}
-        for start in STARTS * 12:
-            state, lines = ((), tuple(start)), []
-            for _ in range(8):
-                options = [(word, k) for word in WORDS for k in range(5)]
-                fitting = [line for line in options if made_by_words(compare_with(ONES), state, line) is not None]
-                if not fitting:
-                    break
-                word = rng.choice(sorted({line[0] for line in fitting}))
-                line = rng.choice([line for line in fitting if line[0] == word])
-                if len(state[1]) > 4 and word == "meet" or oriented(lines + [line]) > 8:
-                    break
-                made[word] += 1
-                lines.append(line)
-                state = made_by_words(compare_with(ONES), state, line)
+        for start in STARTS * 8:
+            lines, _ = random_walk(rng, start)
             self.derives(ONES, start, lines)
+            for word, _ in lines:
+                made[word] += 1
         self.assertGreater(min(made.values()), 2, made)
 
     def test_completions(self):
